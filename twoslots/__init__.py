@@ -1,0 +1,1 @@
+"""Twoslots: the back end of a compiler, with papers."""

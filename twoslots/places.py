@@ -1,0 +1,18 @@
+"""Where the exprs of a source stand in its text."""
+
+from twoslots.sources import need_source
+
+
+def places(source):
+    need_source(source)
+    # Of the exprs of one line no two begin at one sign.
+    return sorted([row[:4] for row in source.worked().met], key=lambda row: (row[0], row[1]))
+
+
+def expr_at(source, line, sign):
+    need_source(source)
+    for row in source.worked().met:
+        # Parts are met ahead of what they are parts of, so the first one is the shortest.
+        if row[0] == line and row[1] <= sign <= row[2]:
+            return row[:4]
+    return None
