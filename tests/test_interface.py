@@ -1,0 +1,58 @@
+"""The interface, as far as it has landed: each name in its file, with its parameters."""
+
+import ast
+import pathlib
+import unittest
+
+FOLDER = pathlib.Path(__file__).resolve().parent.parent / "twoslots"
+FUNCTIONS = {
+    "sourcetexts": "source_text(source) read_source(text) source_fault(text) goes_on(text)",
+    "places": "places(source) expr_at(source,line,sign)",
+    "programtexts": "program_text(program) read_program(text) program_fault(text) program_goes_on(text)",
+    "terms": "term_rows(source) told_numbers(source) written_out(source,number) places_of(source,number)",
+    "sameness": "mean_same(one,other) unlike_paper(one,other) is_unlike_paper(one,other,thing)",
+    "partings": "values_told(source,box) parting_box(one,other) is_parting_box(one,other,thing)",
+    "plaintexts": "plain_source(source)",
+    "needed": ("needed_terms(source) fewest_makings(source) order_of(source) wanted_terms(source,held) "
+               "order_from(source,held) why_needed(source,number) why_idle(source,number)"),
+    "makings": "makings(source)",
+    "carried": ("fewest_carried(source,line) carried_terms(source,line) is_carried(source,line,thing) "
+                "carried_ways(source,line) are_ways(source,line,thing)"),
+    "listings": "count_listings(order) listing_at(order,number) listing_number(order,listing)",
+}
+CLASSES = {
+    "sources": ("Source", "__init__(self,lines) lines(self) reads(self) tells(self) __eq__(self,other)"),
+    "programs": ("Program", "__init__(self,reads,hours,tells) reads(self) hours(self) tells(self) __eq__(self,other)"),
+    "orders": ("Order", "__init__(self,many,pairs) many(self) direct(self) ahead(self,one) behind(self,one) "
+                        "levels(self) __eq__(self,other)"),
+}
+
+
+def heads_in(body):
+    found = []
+    for node in body:
+        if isinstance(node, ast.FunctionDef):
+            found.append(node.name + "(" + ",".join(part.arg for part in node.args.args) + ")")
+            if node.args.defaults:
+                found.pop()
+    return found
+
+
+class Interface(unittest.TestCase):
+    def body_of(self, file):
+        return ast.parse((FOLDER / (file + ".py")).read_text()).body
+
+    def test_functions(self):
+        for file, heads in FUNCTIONS.items():
+            for head in heads.split(" "):
+                self.assertIn(head, heads_in(self.body_of(file)), file)
+
+    def test_classes(self):
+        for file, (name, heads) in CLASSES.items():
+            classes = {node.name: node for node in self.body_of(file) if isinstance(node, ast.ClassDef)}
+            for head in heads.split(" "):
+                self.assertIn(head, heads_in(classes[name].body), file)
+
+
+if __name__ == "__main__":
+    unittest.main()
