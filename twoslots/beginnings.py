@@ -1,6 +1,6 @@
 """Words that are known by their beginnings, and what names and cells are left that begin so."""
 
-from twoslots.names import FIGURES, LETTERS, MOST_CELLS, MOST_SIGNS, SIGNS
+from twoslots.names import FIGURES, MOST_CELLS, MOST_SIGNS, SIGNS
 from twoslots.names import begins_as_cell, begins_as_name, is_name
 
 
@@ -38,14 +38,12 @@ class Beginnings:
 
 
 def names_begun(word):
-    """How many names begin with a word."""
+    """How many names begin with a word that is not empty."""
     if not begins_as_name(word):
         return 0
     many = 0
-    for _ in range(MOST_SIGNS + 1 - max(1, len(word))):
+    for _ in range(MOST_SIGNS + 1 - len(word)):
         many = many * len(SIGNS) + 1
-    if word == "":
-        many = many * len(LETTERS)
     return many - len([taken for taken in ("read", "tell") if taken.startswith(word)])
 
 

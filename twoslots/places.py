@@ -11,8 +11,11 @@ def places(source):
 
 def expr_at(source, line, sign):
     need_source(source)
-    for row in source.worked().met:
+    worked = source.worked()
+    if not 1 <= line < len(worked.met_counts):
+        return None
+    for row in worked.met[worked.met_counts[line - 1]:worked.met_counts[line]]:
         # Parts are met ahead of what they are parts of, so the first one is the shortest.
-        if row[0] == line and row[1] <= sign <= row[2]:
+        if row[1] <= sign <= row[2]:
             return row[:4]
     return None

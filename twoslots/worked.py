@@ -25,8 +25,9 @@ class Worked:
     """What the lines of a source work out to.
 
     rows are its terms, told the pairs (name, number) of its tells, met the tuples
-    (line, first, last, expr, number) of its exprs, parts ahead of what they are parts of,
-    and counts, from 0 lines on, how many terms there are behind so many lines.
+    (line, first, last, expr, number) of its exprs, parts ahead of what they are parts of;
+    counts tells, from 0 lines on, how many terms there are behind so many lines, and met_counts
+    how many exprs.
     """
 
     def __init__(self, lines):
@@ -36,9 +37,11 @@ class Worked:
         self.told = []
         self.met = []
         self.counts = [0]
+        self.met_counts = [0]
         for at, line in enumerate(lines):
             self._work(at + 1, line)
             self.counts.append(len(self.rows))
+            self.met_counts.append(len(self.met))
 
     def _work(self, at, line):
         name = line[1]
@@ -84,7 +87,7 @@ def joint_terms(one, other):
     told = []
     for worked in (one, other):
         numbers = []
-        for row in worked.rows:
+        for row in list(worked.rows):
             numbers.append(book.number(renumbered(row, numbers)))
         told.append([(name, numbers[number]) for name, number in worked.told])
     return book.rows, told[0], told[1]
