@@ -81,6 +81,10 @@ class Examples(Checks):
         self.assertEqual(source_fault("read ab\ntell ab\nab = f()\ntell "), (4, 5))
         self.assertEqual(source_fault("tell "), (1, 5))
 
+    def test_a_name_given_twice_is_one_name_to_tell(self):
+        self.assertEqual(source_fault("x = f()\nx = f()\ntell x\ntell "), (4, 5))
+        self.assertEqual(source_fault("x = f()\nx = f()\ny = f()\ntell x\ntell x"), (5, 6))
+
     def test_a_name_is_known_behind_its_line_alone(self):
         self.assertEqual(source_fault("x = x\n"), (1, 6))
         self.assertEqual(source_fault("x = f(x)\n"), (1, 8))
@@ -100,6 +104,13 @@ class RunOut(Checks):
             self.assertEqual(goes_on(fewer + "read abcdefg"), fewer + f"read abcdefg{ends[left]}\n")
         self.assertTrue(is_source_text(goes_on(text + "x = abcdefg")))
         self.assertTrue(is_source_text(goes_on(text + "abcdefg")))
+
+    def test_a_name_given_twice_is_one_name_taken(self):
+        signs = "abcdefghijklmnopqrstuvwxyz0123456789"
+        text = "abcdefg = f()\n" * 3 + "".join(f"abcdefg{sign} = f()\n" for sign in signs[:-1])
+        self.assertEqual(goes_on(text + "read abcdefg"), text + "read abcdefg9\n")
+        self.assertEqual(source_fault(text + "read abcdefg\n"), (39, 13))
+        self.assertEqual(source_fault(text + "read abcdefg9\nread abcdefg"), (40, 12))
 
     def test_names_of_six_signs_and_more(self):
         signs = "abcdefghijklmnopqrstuvwxyz0123456789"

@@ -23,9 +23,9 @@ class Beginnings:
             self._change(word, 1)
 
     def drop(self, word):
-        if word in self._words:
-            del self._words[word]
-            self._change(word, -1)
+        """Takes away a word that it has."""
+        del self._words[word]
+        self._change(word, -1)
 
     def least(self, beginning):
         """The least word that begins so; there must be one."""
