@@ -19,6 +19,17 @@ FUNCTIONS = {
     "carried": ("fewest_carried(source,line) carried_terms(source,line) is_carried(source,line,thing) "
                 "carried_ways(source,line) are_ways(source,line,thing)"),
     "listings": "count_listings(order) listing_at(order,number) listing_number(order,listing)",
+    "rows": "order_of_row(row) levels_of(row) rearranged(row,other) turned_pair(row,other)",
+    "renamed": "renamed(row) gone_pairs(row)",
+    "plans": ("fewest_hours(order) best_plan(order) plan_within(order,hours) plan_fault(order,thing) "
+              "empty_slots(order)"),
+    "chains": ("best_chain(order) chain_against(order,hours) chain_hours(order,chain) "
+               "chain_fault(order,thing)"),
+    "begun": "begun_fault(order,thing) hours_left(order,begun) next_hours(order,begun,hours)",
+    "plancounts": "count_plans(order) plan_at(order,number) plan_number(order,plan)",
+    "cells": "lives(source,plan) waiting(source,plan) fewest_cells(source,plan) crowded_hour(source,plan)",
+    "namings": ("naming(source,plan,cells) naming_fault(source,plan,thing) "
+                "count_namings(source,plan,cells)"),
 }
 CLASSES = {
     "sources": ("Source", "__init__(self,lines) lines(self) reads(self) tells(self) __eq__(self,other)"),

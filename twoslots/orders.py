@@ -8,6 +8,7 @@ class Order:
     """How many things there are, and what is ahead of what, by whatever lies between.
 
     What is ahead of a thing, or behind it, is kept as an integer with a bit for each thing.
+    What other files work out of an order is kept, too, as it never changes; nothing shows it.
     """
 
     def __init__(self, many, pairs):
@@ -28,6 +29,7 @@ class Order:
         self._behind = bits_ahead(listed[::-1], [(other, one) for one, other in given])
         # Whatever is direct was given, as nothing else leads from the one to the other.
         self._direct = sorted([pair for pair in given if self._behind[pair[0]] & self._ahead[pair[1]] == 0])
+        self._kept = {}
 
     def many(self):
         return self._many
@@ -42,6 +44,18 @@ class Order:
     def behind(self, one):
         self._need_thing(one)
         return places_in(self._behind[one])
+
+    def ahead_bits(self):
+        """For each thing a bit for each one that is ahead of it."""
+        return list(self._ahead)
+
+    def behind_bits(self):
+        """For each thing a bit for each one that is behind it."""
+        return list(self._behind)
+
+    def kept(self):
+        """The dict in which other files keep, each under a name of its own, what they worked out."""
+        return self._kept
 
     def levels(self):
         level_of = self.level_numbers()
