@@ -30,12 +30,23 @@ FUNCTIONS = {
     "cells": "lives(source,plan) waiting(source,plan) fewest_cells(source,plan) crowded_hour(source,plan)",
     "namings": ("naming(source,plan,cells) naming_fault(source,plan,thing) "
                 "count_namings(source,plan,cells)"),
+    "recells": "cells_wanted(program) crowded_in(program) with_fewer_cells(program)",
+    "cellhours": ("hours_within(source,cells) text_within(source,cells,hours) cell_hours(source) "
+                  "layers(source,cells,hours) is_layers(source,cells,hours,thing)"),
+    "holdups": "lighter_moves(source,plan)",
+    "faults": "first_fault(program) is_sound(program) program_terms(program)",
+    "running": "run(program,box)",
+    "slices": "wanted_for(program,name) idle(program) struck(program,spots)",
+    "cuts": "ahead_part(program,hour) rest_part(program,hour)",
+    "traces": "places_made(source,program,hour,slot) made_at(source,program,line,sign)",
 }
 CLASSES = {
     "sources": ("Source", "__init__(self,lines) lines(self) reads(self) tells(self) __eq__(self,other)"),
     "programs": ("Program", "__init__(self,reads,hours,tells) reads(self) hours(self) tells(self) __eq__(self,other)"),
     "orders": ("Order", "__init__(self,many,pairs) many(self) direct(self) ahead(self,one) behind(self,one) "
                         "levels(self) __eq__(self,other)"),
+    "running": ("Run", "__init__(self,program,box) step(self) hour(self) cells(self) told(self) made_by(self,cell) "
+                       "back(self) copy(self) __eq__(self,other)"),
 }
 
 

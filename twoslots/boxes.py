@@ -50,15 +50,34 @@ def need_box(box):
         raise BadBox(box)
 
 
+class Tables:
+    """What a box tells, to be looked up."""
+
+    def __init__(self, box):
+        self._results = {(operation, tuple(values)): value for operation, values, value in box[0]}
+        self._starts = {name: value for name, value in box[1]}
+        self._other = box[2]
+
+    def start(self, name):
+        return self._starts.get(name, self._other)
+
+    def result(self, operation, values):
+        return self._results.get((operation, tuple(values)), self._other)
+
+
 def values_of(rows, box):
     """The values that the terms have by a box, in their order."""
-    results = {(operation, tuple(values)): value for operation, values, value in box[0]}
-    starts = {name: value for name, value in box[1]}
+    tables = Tables(box)
     values = []
     for row in rows:
         if is_read(row):
-            values.append(starts.get(row[1], box[2]))
+            values.append(tables.start(row[1]))
         else:
-            key = (row[0], tuple([values[part] for part in row[1]]))
-            values.append(results.get(key, box[2]))
+            values.append(tables.result(row[0], [values[part] for part in row[1]]))
     return values
+
+
+def copied_box(box):
+    """A box with tuples throughout."""
+    rows = tuple([(operation, tuple(values), value) for operation, values, value in box[0]])
+    return (rows, tuple([(name, value) for name, value in box[1]]), box[2])

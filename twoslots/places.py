@@ -11,11 +11,16 @@ def places(source):
 
 def expr_at(source, line, sign):
     need_source(source)
-    worked = source.worked()
+    row = met_at(source.worked(), line, sign)
+    return None if row is None else row[:4]
+
+
+def met_at(worked, line, sign):
+    """The row of the shortest expr that has a sign, with the number of its term; None where there is none."""
     if not 1 <= line < len(worked.met_counts):
         return None
     for row in worked.met[worked.met_counts[line - 1]:worked.met_counts[line]]:
         # Parts are met ahead of what they are parts of, so the first one is the shortest.
         if row[1] <= sign <= row[2]:
-            return row[:4]
+            return row
     return None
