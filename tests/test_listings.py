@@ -32,6 +32,11 @@ def out_forest(rng, many):
     return [(things[rng.randrange(at)], things[at]) for at in range(1, many) if rng.random() < 0.8]
 
 
+def zigzag(many):
+    """Each thing is ahead of its neighbours, or behind them."""
+    return [(at, at + 1) if at % 2 == 0 else (at + 1, at) for at in range(many - 1)]
+
+
 class Listings(unittest.TestCase):
     def test_all_of_small_orders(self):
         orders = [Order(many, pairs) for many, pairs in random_orders(141, 80, most=6)]
@@ -145,6 +150,64 @@ class Listings(unittest.TestCase):
         listing.clear()
         self.assertEqual(listing_at(order, 1), kept)
         self.assertEqual(order, Order(4, N_PAIRS))
+
+    def test_many_questions_to_one_order(self):
+        """A run of questions to one order tells the same as each question put to an order made anew."""
+        rng = random.Random(143)
+        rows = [(14, [(0, 12), (1, 12), (1, 13), (2, 13)]), (14, zigzag(14)), (11, zigzag(11)), (7, zigzag(7)),
+                (14, [(one, other) for one in range(7) for other in range(7, 14)]), (4, N_PAIRS), (6, Q_PAIRS), (0, []),
+                (1, []), (14, []), (14, [(one, one + 4) for one in range(10)]), (60, out_forest(rng, 60)),
+                (40, [(other, one) for one, other in out_forest(rng, 40)])]
+        rows += random_orders(144, 40, most=10)
+        for many, pairs in rows:
+            order = Order(many, pairs)
+            questions = self.questions(rng, Order(many, pairs))
+            for ask, thing in questions + questions[::-1]:
+                self.assertEqual(self.answer(ask, order, thing), self.answer(ask, Order(many, pairs), thing))
+            self.assertTrue(order == Order(many, pairs) and Order(many, pairs) == order)
+            self.assertEqual(order.direct(), Order(many, pairs).direct())
+            self.assertEqual(order.levels(), Order(many, pairs).levels())
+
+    def questions(self, rng, order):
+        """How many, listings, their numbers again, and what is refused between them."""
+        count = count_listings(order)
+        asked = [(count_listings, None)]
+        for number in (0, count - 1, rng.randrange(count), rng.randrange(count)):
+            listing = listing_at(order, number)
+            wrong = listing[:1] + listing[:1] + listing[2:]
+            asked += [(listing_at, number), (listing_at, rng.choice([count, -1, True, None, "0", count + 7])),
+                      (listing_number, listing), (listing_number, rng.choice([wrong, listing[1:], listing + [0], 7, None])),
+                      (listing_number, tuple(listing)), (count_listings, None)]
+        return asked
+
+    def answer(self, ask, order, thing):
+        """What is told, or the error and what it keeps."""
+        try:
+            return ask(order) if ask is count_listings else ask(order, thing)
+        except (BadListing, BadNumber) as error:
+            return error.__class__.__name__, vars(error)
+
+    def test_told_lists_are_new_however_often_asked(self):
+        for order in (Order(4, N_PAIRS), Order(5, [(0, 1), (0, 2)]), Order(5, [(1, 0), (2, 0)])):
+            told = [listing_at(order, number) for number in range(count_listings(order))]
+            for number, listing in enumerate(told):
+                again = listing_at(order, number)
+                self.assertIsNot(again, listing)
+                again.reverse()
+                self.assertEqual(listing_at(order, number), listing)
+                self.assertEqual(listing_number(order, listing), number)
+
+    def test_all_numbers_of_orders_in_parts(self):
+        """Orders of which some things have nothing to do with others, and some are alike."""
+        rng = random.Random(145)
+        for _ in range(25):
+            one, other = [pairs for _, pairs in random_orders(rng.random(), 2, most=3)]
+            names = rng.sample(range(7), 7)
+            pairs = [(names[a], names[b]) for a, b in one] + [(names[a + 3], names[b + 3]) for a, b in other]
+            order = Order(7, pairs)
+            listings = all_listings(order)
+            self.assertEqual([listing_at(order, number) for number in range(count_listings(order))], listings)
+            self.assertEqual([listing_number(order, listing) for listing in listings], list(range(len(listings))))
 
     def test_no_order(self):
         asks = [count_listings, lambda order: listing_at(order, None), lambda order: listing_number(order, None)]

@@ -1,7 +1,7 @@
 """States: what a machine of some cells can hold, hour by hour, where values may be made again."""
 
 from twoslots.cells import Values
-from twoslots.orders import places_in
+from twoslots.orders import many_in, places_in
 from twoslots.planfaults import is_ascending
 
 
@@ -111,10 +111,6 @@ class Reached:
         while self._from[way[-1]] is not None:
             way.append(self._from[way[-1]])
         return way[::-1]
-
-
-def many_in(bits):
-    return len(places_in(bits))
 
 
 def is_within(bits, others):

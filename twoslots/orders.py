@@ -153,6 +153,12 @@ def places_in(bits):
     return places
 
 
+def many_in(bits):
+    """How many bits are set."""
+    written = f"{bits:b}"
+    return written.count("1")
+
+
 def need_order(order):
     if not isinstance(order, Order):
         raise BadOrder(order)
