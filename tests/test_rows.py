@@ -152,6 +152,9 @@ class Rearranged(unittest.TestCase):
         one, two, three = (1, "f", ()), (2, "g", (1,)), (3, "h", ())
         self.assertEqual(turned_pair([one, two, one], [one, one, two]), ("turned", 1, 2))
         self.assertEqual(turned_pair([one, two, one], [two, one, one]), ("turned", 0, 1))
+        self.assertEqual(turned_pair([one, one, two, one], [one, one, one, two]), ("turned", 2, 3))
+        self.assertEqual(turned_pair([one, two, one, one], [one, one, two, one]), ("turned", 1, 2))
+        self.assertIsNone(turned_pair([one, three, one, one], [one, one, one, three]))
         self.assertEqual(len(rearranged([one, three, one, three], [one, one, three, three])), 2)
         self.assertEqual(len(rearranged([three, one, one, three], [one, three, three, one])), 3)
 
