@@ -39,6 +39,16 @@ FUNCTIONS = {
     "slices": "wanted_for(program,name) idle(program) struck(program,spots)",
     "cuts": "ahead_part(program,hour) rest_part(program,hour)",
     "traces": "places_made(source,program,hour,slot) made_at(source,program,line,sign)",
+    "repairs": "repairs(source,program)",
+    "compiled": "compiled(source)",
+    "judging": "is_same(source,program) judged(source,program)",
+    "hoping": "hopes(source,program) lost_hours(source,program) go_on(source,program,many)",
+    "changing": ("new_terms(source,other) change_hours(source,other) wasted(program,other) "
+                 "stays_best(source,other,plan)"),
+    "redone": "redone(source,some) redo_plan(source,some) redo_chain(source,some)",
+    "givens": ("hours_given(source,line) given_chain(source,line) holding_lines(source) fewest_given(source,hours) "
+               "hours_without(source,name) forcing(source)"),
+    "edits": "edit_cost(source,other) blamed(source,other)",
 }
 CLASSES = {
     "sources": ("Source", "__init__(self,lines) lines(self) reads(self) tells(self) __eq__(self,other)"),
@@ -47,6 +57,7 @@ CLASSES = {
                         "levels(self) __eq__(self,other)"),
     "running": ("Run", "__init__(self,program,box) step(self) hour(self) cells(self) told(self) made_by(self,cell) "
                        "back(self) copy(self) __eq__(self,other)"),
+    "compiled": ("Compiled", "source(self) program(self) plan(self) chain(self) hours(self) __eq__(self,other)"),
 }
 
 

@@ -13,7 +13,11 @@ repr any all divmod pow ValueError TypeError KeyError map super""".split()
 METHODS = """append clear copy count endswith extend find get index insert isalnum isalpha isdigit islower isspace
 isupper items join keys ljust lower lstrip partition pop remove replace reverse rfind rjust rpartition rsplit rstrip
 setdefault split splitlines startswith strip update upper values zfill bit_length""".split()
-LIBRARY = {"heapq": ["heappush", "heappop", "heapify"], "math": ["gcd", "lcm", "isqrt", "comb", "perm", "factorial"]}
+LIBRARY = {
+    "heapq": ["heappush", "heappop", "heapify"],
+    "math": ["gcd", "lcm", "isqrt", "comb", "perm", "factorial"],
+    "itertools": ["product", "combinations", "permutations"],
+}
 BARRED_WORDS = """type typing typing_extensions enum Enum IntEnum StrEnum Flag IntFlag Generic Protocol ABC ABCMeta
 namedtuple NamedTuple TypedDict TYPE_CHECKING abstractmethod""".split()
 BARRED_NAMES = """register mro elements open input law version_info with_traceback add_note attrgetter breakpoint
@@ -22,7 +26,7 @@ locals methodcaller os quit setattr type vars""".split()
 BARRED_ATTRIBUTES = """items keys values pop update append clear extend insert remove reverse setdefault sort args
 encode decode hex fromhex format""".split()
 STATEMENTS = (ast.FunctionDef, ast.ClassDef, ast.Return, ast.Delete, ast.Assign, ast.AugAssign, ast.For, ast.While,
-              ast.If, ast.Raise, ast.ImportFrom, ast.Expr, ast.Pass, ast.Break, ast.Continue)
+              ast.If, ast.Raise, ast.ImportFrom, ast.Expr, ast.Pass, ast.Break, ast.Continue, ast.Try)
 EXPRESSIONS_BARRED = (ast.GeneratorExp, ast.Set, ast.SetComp, ast.NamedExpr, ast.Await, ast.Yield, ast.YieldFrom,
                       ast.Starred)
 
@@ -171,6 +175,17 @@ class Code(unittest.TestCase):
                           if isinstance(part, ast.Attribute) and isinstance(part.ctx, ast.Store)]
                 self.assertFalse(set(methods) & set(stored), (name, node.name))
                 self.assertLessEqual([word for word in methods if word.startswith("__")], ["__init__", "__eq__"])
+
+    def test_own_errors_alone_are_caught(self):
+        errors = [node.name for node in trees()["errors.py"].body if isinstance(node, ast.ClassDef)]
+        for name, node in self.each_node():
+            if isinstance(node, ast.Try):
+                for handler in node.handlers:
+                    self.assertIn(getattr(handler.type, "id", None), errors, (name, node.lineno))
+                for part in node.finalbody:
+                    self.assertIsInstance(part, ast.Assign, (name, part.lineno))
+                    self.assertIsInstance(part.targets[0], (ast.Name, ast.Attribute), (name, part.lineno))
+                    self.assertIsInstance(part.value, (ast.Name, ast.Attribute), (name, part.lineno))
 
     def test_views_are_iterated_at_once(self):
         at_once = set()

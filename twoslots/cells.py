@@ -12,6 +12,7 @@ class Values:
     def __init__(self, source):
         need_source(source)
         rows = source.worked().rows
+        self._rows = rows
         needed = needed_terms(source)
         is_needed = {number: True for number in needed}
         # Things of plans are the places of needed terms in this list.
@@ -23,14 +24,29 @@ class Values:
 
     def lives(self, plan):
         """From each value, ascending, to the hour in which it is made and its last one."""
-        made = {self.needed[thing]: at + 1 for at, hour in enumerate(plan) for thing in hour}
-        last = {number: 1 for number in self.numbers}
-        for number, hour in made.items():
-            for part in self.parts[number]:
-                last[part] = max(last[part], hour)
-        for number in self.told:
-            last[number] = len(plan) + 1
-        return {number: (made.get(number, 0), last[number]) for number in self.numbers}
+        made = {number: 0 for number in self.numbers}
+        made.update(hours_made(self.needed, plan))
+        return lives_by(self._rows, made, self.told, len(plan))
+
+
+def hours_made(numbers, plan):
+    """From each of some terms, which are the things of a plan by their places, to its hour."""
+    return {numbers[thing]: at + 1 for at, hour in enumerate(plan) for thing in hour}
+
+
+def lives_by(rows, made, told, hours):
+    """From each value to the hour in which it is made and its last one.
+
+    rows are the terms, made is from the values to these hours, 0 of what is there at the begin,
+    told has the told ones, and there are so many hours.
+    """
+    last = {value: 1 for value in made}
+    for value, hour in made.items():
+        for part in parts_of(rows[value]) if hour > 0 else ():
+            last[part] = max(last[part], hour)
+    for value in told:
+        last[value] = hours + 1
+    return {value: (hour, last[value]) for value, hour in made.items()}
 
 
 def values_by(source, plan):

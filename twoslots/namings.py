@@ -21,12 +21,17 @@ def cells_for(spans):
 
     spans are from values to the pairs (made, last); those that are made in one hour wait behind it.
     """
+    return cells_beside({}, spans)
+
+
+def cells_beside(given, spans):
+    """Cells as by cells_for, where the values of hour 0 in a dict have their cells by now; it has all or none."""
     held = {}
     chosen = {}
     for value in by_made(spans):
         made = spans[value][0]
         held = {cell: other for cell, other in held.items() if spans[other][1] > made}
-        cell = 1
+        cell = given.get(value, 1)
         while cell in held:
             cell += 1
         held[cell] = value

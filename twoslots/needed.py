@@ -52,12 +52,20 @@ def need_held(source, held):
 def wanted_terms(source, held):
     need_source(source)
     need_held(source, held)
+    wanted = wanted_with(source, {number: True for number in held})
+    return None if lost_names(source, wanted) else wanted
+
+
+def wanted_with(source, held):
+    """The numbers, ascending, of what is wanted where the terms in a dict are held; lost reads are among them."""
+    marks = marks_under(source.worked().rows, told_terms(source), held)
+    return [number for number, mark in enumerate(marks) if mark]
+
+
+def lost_names(source, wanted):
+    """The read names, ascending, among some wanted terms."""
     rows = source.worked().rows
-    marks = marks_under(rows, told_terms(source), {number: True for number in held})
-    wanted = [number for number, mark in enumerate(marks) if mark]
-    if any([is_read(rows[number]) for number in wanted]):
-        return None
-    return wanted
+    return sorted([rows[number][1] for number in wanted if is_read(rows[number])])
 
 
 def order_from(source, held):

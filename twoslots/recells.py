@@ -36,10 +36,14 @@ def with_fewer_cells(program):
     worked = need_sound(program)
     cells = cells_for(lives_in(worked))
     reads = [(name, cells[value]) for value, (name, _) in enumerate(program.reads())]
-    hours = [[instruction_of(worked.rows, cells, value) for value in values] for values in worked.made]
+    hours = [instructions_of(worked.rows, cells, values) for values in worked.made]
     return Program(reads, hours, [(name, cells[value]) for name, value in worked.told])
 
 
-def instruction_of(rows, cells, value):
-    operation, parts = rows[value]
-    return (cells[value], operation, tuple([cells[part] for part in parts]))
+def instructions_of(rows, cells, values):
+    """The instructions by which some values are made, where cells are from values to their cells."""
+    hour = []
+    for value in values:
+        operation, parts = rows[value]
+        hour.append((cells[value], operation, tuple([cells[part] for part in parts])))
+    return hour

@@ -4,8 +4,7 @@ from twoslots.errors import NoSpot
 from twoslots.places import met_at
 from twoslots.sources import need_source
 from twoslots.terms import places_of
-from twoslots.worked import TermBook
-from twoslots.workedprograms import need_sound
+from twoslots.workedprograms import need_sound, numbers_by
 
 
 def places_made(source, program, hour, slot):
@@ -26,11 +25,3 @@ def made_at(source, program, line, sign):
         return None
     numbers = numbers_by(source, worked)
     return [spot for value, spot in enumerate(worked.spots) if spot is not None and numbers[value] == met[4]]
-
-
-def numbers_by(source, worked):
-    """For each value of a program the number of its term in the source, a greater one if it is none there."""
-    book = TermBook()
-    for row in source.worked().rows:
-        book.number(row)
-    return worked.numbers(book)

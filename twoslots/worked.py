@@ -86,11 +86,17 @@ def joint_terms(one, other):
     book = TermBook()
     told = []
     for worked in (one, other):
-        numbers = []
-        for row in list(worked.rows):
-            numbers.append(book.number(renumbered(row, numbers)))
+        numbers = numbers_in(book, worked.rows)
         told.append([(name, numbers[number]) for name, number in worked.told])
     return book.rows, told[0], told[1]
+
+
+def numbers_in(book, rows):
+    """The numbers that terms have in a book of terms, into which they are put."""
+    numbers = []
+    for row in rows:
+        numbers.append(book.number(renumbered(row, numbers)))
+    return numbers
 
 
 def renumbered(row, numbers):

@@ -3,7 +3,7 @@
 from twoslots.errors import NotSound
 from twoslots.names import is_number
 from twoslots.programs import need_program
-from twoslots.worked import renumbered
+from twoslots.worked import TermBook, numbers_in
 
 
 class WorkedProgram:
@@ -53,10 +53,7 @@ class WorkedProgram:
 
     def numbers(self, book):
         """For each value the number that its term has in a book of terms, into which it is put."""
-        numbers = []
-        for row in self.rows:
-            numbers.append(book.number(renumbered(row, numbers)))
-        return numbers
+        return numbers_in(book, self.rows)
 
     def value_at(self, hour, slot):
         """The value that is made at a spot, None if nothing is; any two objects may be asked."""
@@ -91,3 +88,17 @@ def need_sound(program):
     if worked.fault is not None:
         raise NotSound(worked.fault)
     return worked
+
+
+def numbers_by(source, worked):
+    """For each value of a program the number of its term in the source, a greater one if it is none there."""
+    book = TermBook()
+    for row in source.worked().rows:
+        book.number(row)
+    return worked.numbers(book)
+
+
+def told_by_numbers(source, worked):
+    """The pairs (name, number) that a sound program tells, numbers being as numbers_by tells them."""
+    numbers = numbers_by(source, worked)
+    return [(name, numbers[value]) for name, value in worked.told]
