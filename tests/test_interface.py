@@ -1,4 +1,4 @@
-"""The interface, as far as it has landed: each name in its file, with its parameters."""
+"""The interface: each name in its file, with its parameters."""
 
 import ast
 import pathlib
@@ -49,6 +49,15 @@ FUNCTIONS = {
     "givens": ("hours_given(source,line) given_chain(source,line) holding_lines(source) fewest_given(source,hours) "
                "hours_without(source,name) forcing(source)"),
     "edits": "edit_cost(source,other) blamed(source,other)",
+    "papers": ("paper_text(source,chain) read_paper(text) "
+               "papers_fault(source_text,program_text,paper_text)"),
+    "behind": "put_behind(one,other) alike_everywhere(one,other) parting_source(one,other)",
+    "repeating": ("again(source,many) settles(source) growing_ring(source) is_growing_ring(source,thing) "
+                  "alike_again(source,one,other)"),
+    "definitions": "expanded(source,definitions) ring_of_uses(source,definitions)",
+    "seen": "order_of_seen(seen) unseen(seen)",
+    "toldback": "source_of_teller(teller,reads) source_of_program(program)",
+    "sessiontexts": "write_session(session) read_session(text)",
 }
 CLASSES = {
     "sources": ("Source", "__init__(self,lines) lines(self) reads(self) tells(self) __eq__(self,other)"),
@@ -58,6 +67,10 @@ CLASSES = {
     "running": ("Run", "__init__(self,program,box) step(self) hour(self) cells(self) told(self) made_by(self,cell) "
                        "back(self) copy(self) __eq__(self,other)"),
     "compiled": ("Compiled", "source(self) program(self) plan(self) chain(self) hours(self) __eq__(self,other)"),
+    "definitions": ("Definitions", "__init__(self,rows) rows(self) __eq__(self,other)"),
+    "sessions": ("Session", "__init__(self) now(self) mark(self) watched(self) do(self,deed) is_question(self,thing) "
+                            "answer(self,question) would(self,deed) can_take(self) costs(self) count(self) deeds(self) "
+                            "undo(self) again(self) at(self,number) copy(self) trial(self,work) __eq__(self,other)"),
 }
 
 

@@ -181,7 +181,9 @@ class Code(unittest.TestCase):
         for name, node in self.each_node():
             if isinstance(node, ast.Try):
                 for handler in node.handlers:
-                    self.assertIn(getattr(handler.type, "id", None), errors, (name, node.lineno))
+                    kinds = handler.type.elts if isinstance(handler.type, ast.Tuple) else [handler.type]
+                    for kind in kinds:
+                        self.assertIn(getattr(kind, "id", None), errors, (name, node.lineno))
                 for part in node.finalbody:
                     self.assertIsInstance(part, ast.Assign, (name, part.lineno))
                     self.assertIsInstance(part.targets[0], (ast.Name, ast.Attribute), (name, part.lineno))
@@ -206,8 +208,18 @@ class Code(unittest.TestCase):
             for node in tree.body[1:]:
                 self.assertIsInstance(node, (ast.ImportFrom, ast.FunctionDef, ast.ClassDef, ast.Assign), name)
                 if isinstance(node, ast.Assign):
-                    self.assertIsInstance(node.value, ast.Constant, name)
+                    self.check_plain_value(name, node.value)
                     self.assertEqual(len(node.targets), 1)
+
+    def check_plain_value(self, name, node):
+        """A constant, or a tuple or dict of constants."""
+        parts = [node]
+        if isinstance(node, ast.Tuple):
+            parts = node.elts
+        elif isinstance(node, ast.Dict):
+            parts = node.keys + node.values
+        for part in parts:
+            self.assertIsInstance(part, ast.Constant, name)
 
 
 if __name__ == "__main__":

@@ -45,6 +45,18 @@ def expr_text(expr):
     return "".join(pieces)
 
 
+def operations_used(expr):
+    """The unlike pairs (operation, how many parts) that stand in an expr."""
+    found = {}
+    left = [expr]
+    while left:
+        part = left.pop()
+        if not isinstance(part, str):
+            found[(part[0], len(part) - 1)] = True
+            left.extend(part[1:])
+    return list(found)
+
+
 def placed_exprs(expr, first):
     """All exprs within one whose text begins at a sign, itself too, as triples (first, last, expr).
 

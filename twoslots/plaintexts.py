@@ -1,16 +1,21 @@
 """One source for each meaning."""
 
 from twoslots.sources import Source, need_source
-from twoslots.worked import is_read
+from twoslots.worked import is_read, marks_under
 
 
 def plain_source(source):
     need_source(source)
-    rows = source.worked().rows
-    told = source.worked().told
-    reads = sorted(source.reads())
+    return source_of_terms(source.worked().rows, sorted(source.reads()), source.worked().told)
+
+
+def source_of_terms(rows, reads, told):
+    """The source with these reads, in their order, that tells the pairs (name, number) of some terms.
+
+    Its lines are those of plain sources; whatever is told by no name is left out.
+    """
     met = reads_then_met(rows, reads, [number for _, number in told])
-    names = new_names(len(met), reads + source.tells())
+    names = new_names(len(met), reads + [name for name, _ in told])
     name_of = {number: names[at] for at, number in enumerate(met)}
     lines = [("read", name) for name in reads]
     for number in met:
@@ -19,6 +24,13 @@ def plain_source(source):
         lines.append(("give", name, name_of[number]))
         lines.append(("tell", name))
     return Source(lines)
+
+
+def source_of_told(rows, told):
+    """As by source_of_terms, with just the read names, ascending, that stand in what is told."""
+    marks = marks_under(rows, [number for _, number in told], {})
+    reads = sorted([row[1] for number, row in enumerate(rows) if marks[number] and is_read(row)])
+    return source_of_terms(rows, reads, told)
 
 
 def plain_expr(row, name_of):
