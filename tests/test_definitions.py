@@ -105,6 +105,9 @@ class Rows(unittest.TestCase):
         self.assertEqual(definitions.rows(), told)
         rows[0][2][2].append("p")
         self.assertEqual(definitions.rows(), told)
+        rows[2][1].append("q")
+        self.assertEqual(definitions.rows(), told)
+        self.assertEqual(definitions, Definitions([[name, tuple(names), list(expr) if expr != "x" else expr] for name, names, expr in told]))
 
     def test_bad_rows(self):
         for thing in [None, 0, "sq", {}, T, function_of_somebody, True]:
@@ -240,6 +243,8 @@ class Expanded(unittest.TestCase):
         self.assertEqual(ring_of_uses(source, Definitions(rows[:3] + rows[5:])), [("g", 1), ("h", 1)])
         self.assertEqual(ring_of_uses(source, Definitions(rows[:3])), [("a", 1), ("b", 1), ("c", 1)])
         rows = [("a", ["p"], ("f", ("c", "p"), ("b", "p"))), ("b", ["p"], ("d", "p")), ("c", ["p"], ("d", "p")), ("d", ["p"], ("a", "p"))]
+        self.assertEqual(ring_of_uses(source, Definitions(rows)), [("a", 1), ("b", 1), ("d", 1)])
+        rows[0] = ("a", ["p"], ("f", ("b", "p"), ("c", "p")))
         self.assertEqual(ring_of_uses(source, Definitions(rows)), [("a", 1), ("b", 1), ("d", 1)])
         rows = [("a", ["p"], ("a", "p", "p")), ("a", ["p", "q"], ("a", "p"))]
         self.assertEqual(ring_of_uses(source, Definitions(rows)), [("a", 1), ("a", 2)])

@@ -89,6 +89,14 @@ class Seen(unittest.TestCase):
         self.assertFalse(self.check([[0, 1, 2, 3], [1, 0, 3, 2]]))
         self.assertTrue(self.check([[0, 1, 2, 3], [0, 2, 1, 3]]))
 
+    def test_one_more_by_the_last_or_the_first_two_alone(self):
+        self.assertFalse(self.check([[0, 1, 2], [1, 0, 2], [0, 2, 1], [2, 0, 1]]))
+        self.assertFalse(self.check([[2, 1, 0], [2, 0, 1], [1, 2, 0], [1, 0, 2]]))
+        every = listings_by_hand(3, [])
+        for many in range(1, 7):
+            for seen in itertools.combinations(every, many):
+                self.check(list(seen))
+
     def test_the_same_again(self):
         rng = random.Random(754)
         for _ in range(30):

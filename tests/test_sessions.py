@@ -172,7 +172,8 @@ class Deeds(Base):
     def test_no_question(self):
         session = session_of_t(("watch", SAME))
         for thing in OBJECTS + [("in", -1), ("in", True), ("in", "1"), ("told", "y"), ("told", "q"), ("told",), ("told", None), ("in",), ("same", 1),
-                                ("hours", 0), (None,), ([],), ("told", ["x"]), ("Same",), T, ("in", 1, 1), ({},), ("told", 7)]:
+                                ("hours", 0), (None,), ([],), ("told", ["x"]), ("Same",), T, ("in", 1, 1), ({},), ("told", 7), ("tell", "x"), ("x", "x"), ("x", "told"), ("hours", "x"),
+                                ("told", "x", "z"), (("told", "x"),), ("tolds", "x"), (3, "in"), ("told", T)]:
             for kind in ("watch", "hold", "free"):
                 self.assertIs(self.refused(session, (kind, thing), BadQuestion).thing, thing)
             self.assertIs(session.is_question(thing), False)

@@ -14,7 +14,7 @@ from twoslots.sources import Source
 from twoslots.sourcetexts import read_source, source_fault, source_text
 
 from tests.hopeoracles import needed_by, rich_sources, sources_and_programs
-from tests.programsamples import P, fault_by_hand, told_terms_of
+from tests.programsamples import P, fault_by_hand, random_programs, told_terms_of
 from tests.samples import NO_STRINGS, P_TEXT, T_TEXT, random_sources, source_of, terms_within, written
 from tests.test_papers import T_PAPER, blocks_by_hand
 from tests.test_papers import fault_by_hand as paper_fault
@@ -113,8 +113,15 @@ class ThreeTexts(unittest.TestCase):
 
     def test_faults_of_the_program(self):
         for old, new, line in [("g(3, 3)", "g(3, 9)", 4), ("tell z 4", "tell z 9", 6), ("tell x 3", "tell x 9", 7),
-                               ("3 = f(1, 2)", "3 = f(1, 2) | 3 = f(2, 1)", 3)]:
+                               ("3 = f(1, 2)", "3 = f(1, 2) | 3 = f(2, 1)", 3), ("h(4, 3)", "h(9, 3)", 5), ("f(1, 2)", "f(1, 9)", 3)]:
             self.assertEqual(self.check(T_TEXT, P_TEXT.replace(old, new), "hours 9\n"), ("program", line, 1, "fault"))
+
+    def test_programs_that_are_not_sound(self):
+        faults = 0
+        for program in random_programs(717, 120, right=False):
+            told = self.check(T_TEXT, program_text(program), T_PAPER)
+            faults += told is not None and told[3] == "fault"
+        self.assertGreater(faults, 40)
 
     def test_tells(self):
         for old, new, line in [("tell z 4", "tell z 3", 6), ("tell x 3\n", "", 7), ("tell x 3\n", "tell x 3\ntell y 3\n", 8),

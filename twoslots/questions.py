@@ -2,7 +2,7 @@
 
 from twoslots.chains import chain_against
 from twoslots.changing import change_hours, new_terms
-from twoslots.names import is_list, is_name, is_number
+from twoslots.names import is_list, is_number
 from twoslots.needed import fewest_makings, order_of
 from twoslots.plans import fewest_hours, plan_within
 from twoslots.sameness import mean_same, unlike_paper
@@ -22,7 +22,7 @@ def question_of(source, thing):
         return None
     if thing[0] == "in" and is_number(thing[1]):
         return ("in", thing[1])
-    if thing[0] == "told" and is_name(thing[1]) and thing[1] in source.tells():
+    if thing[0] == "told" and thing[1] in source.tells():
         return ("told", thing[1])
     return None
 
